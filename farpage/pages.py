@@ -9,6 +9,11 @@ MOST_BREADTH = 64
 MOST_ROWS = 24
 
 
+def other_cell(cell):
+    """The cell of the other colour."""
+    return DARK if cell == LIGHT else LIGHT
+
+
 def is_row(thing):
     """Whether any thing is a row."""
     if not isinstance(thing, str):

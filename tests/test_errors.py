@@ -3,7 +3,7 @@
 import unittest
 
 from farpage import errors
-from tests.refusals import NAMES
+from tests.helper import NAMES
 
 
 class TestErrors(unittest.TestCase):

@@ -4,31 +4,9 @@ import unittest
 
 from farpage.errors import NoPage
 from farpage.pages import fit_page, fit_row, is_page, is_row, read_page, show_page
-from tests.refusals import RefusalCase
+from tests.helper import NO_TEXTS, ROW, RefusalCase, odd_signs, patterned_page, patterned_row
 
-ROW = "..##...#"
-ODD_SIGNS = [sign for sign in map(chr, range(ord(" "), ord("~") + 1)) if sign not in ".#%"]
-DEEP = (((((("........",),),),),),)
-# Things that are neither a text nor a tuple of rows.
-NO_TEXTS = [
-    0, 1, 8, -8, 10 ** 30 - 1, 1 - 10 ** 30, True, False, None,
-    [], (), [ROW], [ROW, ROW], list(ROW), tuple(ROW), [[ROW]], ((ROW,),), ((ROW, ROW), (ROW, ROW)), DEEP,
-    (0,), (True,), (None,), (8,) * 8, [None] * 300, (None,) * 299, ([ROW],), ([],), ((),), ("",),
-]
-
-
-def patterned_row(breadth, seed):
-    """A row whose cells come from a plain sum, so that tests need no chance."""
-    cells = []
-    worth = seed * 7919 + 12345
-    for _ in range(breadth):
-        worth = (worth * 1103515245 + 12345) & 0x7FFFFFFF
-        cells.append("#" if worth >> 16 & 3 == 0 else ".")
-    return "".join(cells)
-
-
-def patterned_page(rows, breadth, seed):
-    return tuple(patterned_row(breadth, seed * 100 + number) for number in range(rows))
+ODD_SIGNS = odd_signs(".#")
 
 
 class TestIsRow(unittest.TestCase):

@@ -5,20 +5,11 @@ import unittest
 
 from farpage.errors import NoWords
 from farpage.words import run_bits, words_by
-from tests.refusals import RefusalCase
+from tests.helper import DARK_WORDS, LIGHT_WORDS, RefusalCase
 
 LIGHT_LENGTHS = [6, 4, 4, 4, 4, 4, 5, 5, 5, 5, 6, 6, 6, 6, 6, 6, 4, 5, 6, 4]
 DARK_LENGTHS = [7, 2, 3, 3, 4, 4, 5, 5, 5, 6, 6, 6, 7, 7, 7, 7, 6, 7, 7, 7]
 STEP_LENGTHS = [1, 3, 3, 3, 5, 5, 6, 6, 6]
-# The words by these lengths written out, ends first, then makers.
-LIGHT_WORDS = (
-    "011001 1111 1110 1101 1100 1011 10001 10000 01111 01110 "
-    "011000 010111 010110 010101 010100 010011 1010 01101 010010 1001"
-).split()
-DARK_WORDS = (
-    "0011011 11 101 100 0111 0110 01011 01010 01001 010001 "
-    "010000 001111 0011010 0011001 0011000 0010111 001110 0010110 0010101 0010100"
-).split()
 
 
 def made_words(lengths):
