@@ -30,6 +30,8 @@ BARRED_WORDS = re.compile(
     r"\b(type|typing|typing_extensions|enum|Enum|IntEnum|StrEnum|Flag|IntFlag|Generic|Protocol|ABC|ABCMeta|namedtuple"
     r"|NamedTuple|TypedDict|TYPE_CHECKING|abstractmethod)\b|dataclass|overload|contextmanager"
 )
+BUILTIN_ATTRIBUTES = {name for kind in (str, int, list, tuple, dict, set, bytes) for name in dir(kind)}
+FREE_ATTRIBUTES = set("count index title find get join lower upper split strip copy add".split())
 BARRED_NODES = (ast.Global, ast.AsyncFunctionDef, ast.AsyncFor, ast.AsyncWith, ast.Await, ast.Import, ast.Div)
 
 
@@ -54,6 +56,16 @@ def bound_names(tree):
             yield node.id
         elif isinstance(node, ast.ExceptHandler) and node.name:
             yield node.name
+
+
+def own_methods():
+    """The methods of all classes of the package, but those of double underscores."""
+    return {
+        method.name
+        for tree in trees().values()
+        for node in ast.walk(tree) if isinstance(node, ast.ClassDef)
+        for method in node.body if isinstance(method, ast.FunctionDef) and not method.name.startswith("__")
+    }
 
 
 def imported_files(tree):
@@ -169,16 +181,23 @@ class TestCode(unittest.TestCase):
                     self.assertIn(node.id, BUILTINS, (name, node.lineno))
 
     def test_methods(self):
-        own = {
-            method.name
-            for tree in trees().values()
-            for node in ast.walk(tree) if isinstance(node, ast.ClassDef)
-            for method in node.body if isinstance(method, ast.FunctionDef)
-        }
+        own = own_methods()
         for name, tree in trees().items():
             for node in ast.walk(tree):
                 if isinstance(node, ast.Call) and isinstance(node.func, ast.Attribute):
                     self.assertIn(node.func.attr, METHODS | own, (name, node.lineno))
+
+    def test_attributes(self):
+        nodes = [node for tree in trees().values() for node in ast.walk(tree) if isinstance(node, ast.Attribute)]
+        assigned = {node.attr for node in nodes if isinstance(node.ctx, ast.Store)}
+        called = METHODS | own_methods()
+        self.assertEqual(assigned & own_methods(), set())
+        self.assertEqual(assigned & (BUILTIN_ATTRIBUTES - FREE_ATTRIBUTES), set())
+        self.assertEqual(assigned & BARRED_NAMES, set())
+        self.assertEqual({node.attr for node in nodes} - assigned - called, set())
+
+    def test_own_methods_have_no_name_of_builtin_values_that_is_barred(self):
+        self.assertEqual(own_methods() & (BUILTIN_ATTRIBUTES - METHODS), set())
 
     def test_statements_and_values(self):
         for name, tree in trees().items():
