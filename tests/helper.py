@@ -1,8 +1,12 @@
-"""What the tests share: refusals, odd things, rows and bits by plain sums, and tellings by the document's words."""
+"""What the tests share: refusals, odd things, draws by plain sums, and tellings and ends by the document's words."""
 
 import unittest
 
 from farpage import errors
+from farpage.pages import fit_page
+from farpage.pieces import pieces_of
+from farpage.speech import is_word
+from farpage.stream import page_bits, read_bits
 
 NAMES = ("NoPage", "NoWords", "NoTelling", "NoFrame", "NoPiece", "NoName", "NoEnds", "NoCall", "NoSaying")
 
@@ -158,3 +162,208 @@ def all_bits(most):
     for many in range(1, most + 1):
         for number in range(2 ** many):
             yield format(number, "b").zfill(many)
+
+
+def patterned_draw(seed):
+    """A function that tells the next number below a bound, from a plain sum."""
+    worth = [seed * 7919 + 12345]
+
+    def draw(below):
+        worth[0] = (worth[0] * 1103515245 + 12345) & 0x7FFFFFFF
+        return (worth[0] >> 8) % below
+
+    return draw
+
+
+class DueReceiver:
+    """A receiver by the words of promises 23 to 25, written straight down."""
+
+    def __init__(self, setting, room):
+        self.setting, self.room = setting, room
+        self.pages, self.store = [], []
+        self.lose_power()
+
+    def lose_power(self):
+        self.set_to, self.pieces, self.bits = None, {}, {}
+
+    def had(self):
+        return list(self.pages)
+
+    def held(self):
+        return list(self.store)
+
+    def print_one(self):
+        return self.store.pop(0) if self.store else None
+
+    def hears(self, thing):
+        kind = thing[0] if is_word(thing) else None
+        if kind in ("call", "end"):
+            self.lose_power()
+            return ("can", self.setting) if kind == "call" else None
+        if kind == "set":
+            pairs = list(zip(thing[1][:3], self.setting[:3]))
+            if any(one > own for one, own in pairs) or (thing[1][3] and not self.setting[3]):
+                return None
+            self.set_to = thing[1]
+            return ("ready",)
+        if self.set_to is None:
+            return None
+        if kind == "trial":
+            return ("clear",) if thing[1] == "0" * 16 * self.set_to[2] else ("fail",)
+        if kind == "page" and not self.set_to[3]:
+            self.bits = {thing[1]: thing[2]}
+        if kind == "piece" and self.set_to[3]:
+            self.pieces = {place: bits for place, bits in self.pieces.items() if place[:2] == thing[1:3]}
+            self.pieces.setdefault(thing[1:4], thing[4])
+        return self.ended(*thing[1:]) if kind == "ended" else None
+
+    def ended(self, key, many, ends):
+        for one, page, guessed, told in self.pages:
+            if one == key:
+                return ("rough" if guessed else "good", key)
+        mends = self.set_to[3]
+        if (mends and many == 0) or (not mends and many != 0):
+            return None
+        lacking = tuple(number for number in range(many) if (key, many, number) not in self.pieces)
+        if mends and lacking:
+            return ("lacks", key, lacking)
+        bits = "".join(self.pieces[key, many, number] for number in range(many)) if mends else self.bits.get(key, "")
+        rows, met = read_bits(self.set_to[0], bits)
+        guessed = tuple(number for number, row in enumerate(rows) if row[1] == "guessed")
+        if not met or not rows or len(rows) > 24 or len(guessed) > (0 if mends else len(rows) // 4):
+            self.pieces = {} if mends else self.pieces
+            return ("bad", key)
+        if len(self.store) == self.room:
+            del self.store[0]
+            return ("busy", key)
+        self.pages.append((key, tuple(row[0] for row in rows), guessed, ends))
+        self.store.append(key)
+        return ("rough" if guessed else "good", key)
+
+
+class GivesUp(Exception):
+    pass
+
+
+class DueSender:
+    """A sender by the words of promises 26 and 27, written as one talk from the call to the end."""
+
+    def __init__(self, name, setting, pages):
+        self.name, self.setting, self.pages = name, setting, list(pages)
+        self.told = ["waiting"] * len(pages)
+        self.hand = 0
+        self.talk = self.talking()
+        self.word = next(self.talk)
+
+    def says(self):
+        return self.word
+
+    def outcomes(self):
+        return [(page[0], told) for page, told in zip(self.pages, self.told)]
+
+    def hears(self, thing):
+        if self.word is not None:
+            self.word = self.talk.send(thing)
+
+    def lose_power(self):
+        if self.word is not None and self.word[0] == "ended":
+            self.told[self.hand] = "unsure"
+        self.leave()
+        self.word = None
+
+    def leave(self):
+        self.told = ["unsent" if told == "waiting" else told for told in self.told]
+
+    def talking(self):
+        try:
+            yield from self.all_pages()
+        except GivesUp:
+            self.leave()
+        yield ("end",)
+        yield None
+
+    def asked(self, word, kinds, key=None, many=0):
+        """The first answer to the word, that is said three times at most."""
+        for _ in range(3):
+            heard = yield word
+            if not is_word(heard) or heard[0] not in kinds or (key is not None and heard[1] != key):
+                continue
+            if heard[0] == "lacks" and any(number >= many for number in heard[2]):
+                continue
+            return heard
+        if word[0] == "ended":
+            self.told[self.hand] = "unsure"
+        raise GivesUp
+
+    def all_pages(self):
+        heard = yield from self.asked(("call",), ("can",))
+        pairs = list(zip(self.setting[:3], heard[1][:3]))
+        self.breadth, self.every, self.speed = (min(pair) for pair in pairs)
+        self.mends = self.setting[3] and heard[1][3]
+        step = "set"
+        for self.hand, (number, page, ends) in enumerate(self.pages):
+            self.bads = self.lacks = self.busies = 0
+            self.due = None
+            told = None
+            while told is None:
+                yield from self.made_ready(step)
+                yield from self.one_page((self.name, number), page)
+                told, step = yield from self.one_end((self.name, number), page, ends)
+            self.told[self.hand] = told
+
+    def slower(self):
+        if self.speed == 1:
+            raise GivesUp
+        self.speed -= 1
+        self.lacks = 0
+
+    def made_ready(self, step):
+        while step != "page":
+            if step == "set":
+                setting = (self.breadth, self.every, self.speed, self.mends)
+                yield from self.asked(("set", setting), ("ready",))
+            heard = yield from self.asked(("trial", "0" * 16 * self.speed), ("clear", "fail"))
+            step = "page"
+            if heard[0] == "fail":
+                self.slower()
+                step = "set"
+
+    def pieces(self, page):
+        return pieces_of(page_bits(fit_page(page, self.breadth), self.every, 0))
+
+    def one_page(self, key, page):
+        if not self.mends:
+            yield ("page", key, page_bits(fit_page(page, self.breadth), self.every, 16 * self.speed))
+            return
+        pieces = self.pieces(page)
+        for number, bits in enumerate(pieces):
+            if self.due is None or number in self.due:
+                yield ("piece", key, len(pieces), number, bits)
+
+    def one_end(self, key, page, ends):
+        """What is told of the page, None where it is due still, and the step with which it goes on."""
+        many = len(self.pieces(page)) if self.mends else 0
+        while True:
+            kinds = ("good", "rough", "bad", "lacks", "busy")
+            heard = yield from self.asked(("ended", key, many, ends), kinds, key, many)
+            if heard[0] in ("good", "rough"):
+                return heard[0], "trial" if heard[0] == "rough" else "page"
+            if heard[0] == "bad":
+                self.bads += 1
+                self.due = None
+                if self.bads == 3:
+                    self.told[self.hand] = "refused"
+                    raise GivesUp
+                return None, "trial"
+            if heard[0] == "lacks":
+                self.lacks += 1
+                self.due = heard[2]
+                if self.lacks < 4:
+                    return None, "page"
+                if self.speed == 1:
+                    self.told[self.hand] = "refused"
+                self.slower()
+                return None, "set"
+            self.busies += 1
+            if self.busies == 8:
+                raise GivesUp
