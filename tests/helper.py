@@ -367,3 +367,17 @@ class DueSender:
             self.busies += 1
             if self.busies == 8:
                 raise GivesUp
+
+
+def drawn_fates(draw, many, calm):
+    """So many fates, of which the more come the more calm there is."""
+    fates = []
+    for _ in range(many):
+        spoil = ("spoil", patterned_spoils(1 + draw(3), 200, draw(1000)))
+        power = [("down",), ("gone",), ("come",)][draw(3)]
+        # A wire that is cut for long tells little, so that a cut is rare.
+        cut = ("cut",) if draw(3) == 0 else ("lose",)
+        kinds = [cut, ("whole",), ("lose",), ("lose",), ("lose",), spoil, spoil, power]
+        at = draw(9 + 6 * calm)
+        fates.append(kinds[at] if at < len(kinds) else ("come",))
+    return fates

@@ -221,6 +221,33 @@ class TestWhatIsKept(ReceiverCase):
         self.assert_answers(receiver, (("ended", KEY, 0, ()), ("bad", KEY)))
         self.assert_answers(receiver, (("set", PLAIN), ("ready",)), (("ended", KEY, 0, ()), ("good", KEY)))
 
+    def test_a_page_had_lets_go_nothing_of_another_one(self):
+        receiver = set_receiver(OWN)
+        many = self.say_pieces(receiver, KEY, page_bits(PAGE, 2, 0))
+        receiver.hears(("set", PLAIN))
+        self.assertEqual(self.give(receiver, OTHER, PAGE), ("good", OTHER))
+        receiver.hears(("set", OWN))
+        self.assert_answers(receiver, (("ended", KEY, many, ()), ("good", KEY)))
+        receiver = set_receiver(PLAIN)
+        receiver.hears(("page", OTHER, page_bits(PAGE, 2, 0)))
+        receiver.hears(("set", OWN))
+        many = self.say_pieces(receiver, KEY, page_bits(PAGE, 2, 0))
+        self.assert_answers(receiver, (("ended", KEY, many, ()), ("good", KEY)), (("set", PLAIN), ("ready",)))
+        self.assert_answers(receiver, (("ended", OTHER, 0, ()), ("good", OTHER)))
+
+    def test_bad_of_one_kind_lets_go_nothing_of_the_other_one(self):
+        receiver = set_receiver(OWN)
+        many = self.say_pieces(receiver, KEY, page_bits(PAGE, 2, 0))
+        receiver.hears(("set", PLAIN))
+        self.assert_answers(receiver, (("ended", KEY, 0, ()), ("bad", KEY)), (("set", OWN), ("ready",)))
+        self.assert_answers(receiver, (("ended", KEY, many, ()), ("good", KEY)))
+        receiver = set_receiver(PLAIN)
+        receiver.hears(("page", KEY, page_bits(PAGE, 2, 0)))
+        receiver.hears(("set", OWN))
+        receiver.hears(("piece", KEY, 1, 0, "0"))
+        self.assert_answers(receiver, (("ended", KEY, 1, ()), ("bad", KEY)), (("set", PLAIN), ("ready",)))
+        self.assert_answers(receiver, (("ended", KEY, 0, ()), ("good", KEY)))
+
     def test_a_page_stands_in_the_place_of_the_one_kept_ahead(self):
         receiver = set_receiver(PLAIN)
         receiver.hears(("page", KEY, page_bits(PAGE, 2, 0)))
